@@ -1,0 +1,30 @@
+"""Values of all kinds, to be handed to what takes any value."""
+
+
+def nested(kind, depth):
+    """A value of one kind within one of the same kind, and so on."""
+    value = 1
+    for _ in range(depth):
+        if kind is dict:
+            value = {"a": value}
+        else:
+            value = kind([value])
+    return value
+
+
+def any_values():
+    """A new list of values of all kinds at each call."""
+    numbers = [0, 1, 2, 3, 4, 5, 6, 7, 8, 10, 11, 12, 13, 14, 17, -1, -2, -13, 10 ** 59, -10 ** 59]
+    texts = ["", "0", "5", "(1, 2)", "None", "True", "|()|", "a\tb\n", "~" * 200]
+    pairs = [
+        (0, 1), (0, 2), (0, -1), (0, 0), (1, 1), (1, 2), (-1, 2), (1, -2), (-1, -2), (2, 4), (-2, 4), (6, 3),
+        (5, 0), (3, 9), (10 ** 59, 1), (10 ** 59, 10), (1, 10 ** 59), (True, 1), (1, True), (False, 1),
+        (None, 1), (1, None), ("1", "2"), ("1", 2), ((1,), 2), (1, (2,)), ([1], 2), ({}, 2), ("a", "b"),
+    ]
+    lists = [[list(pair)[0], list(pair)[1]] for pair in pairs]
+    others = [
+        None, True, False, (), (1,), (2,), (1, 2, 3), (0, 1, 1), ((1, 2),), ((1, 2), (1, 2)), [], [1], [5],
+        [1, 2, 3], [(1, 2)], {}, {1: 2}, {0: 1, 1: 2}, {"u": 1, "e": 2}, {(1, 2): [3]}, ("term", 1), ("form",),
+    ]
+    deep = [nested(kind, 10) for kind in (list, tuple, dict)]
+    return numbers + texts + pairs + lists + others + deep
