@@ -60,7 +60,24 @@ def over(p, x, y):
     if p == 0:
         (u, e), (v, f) = x, y
         return _shortened(u * f, e * v)
-    return x * _inverse(p, y) % p
+    # y taken p - 1 times as a factor is one modulo p (Fermat), so once less is one over y.
+    return x * power(p, y, p - 2) % p
+
+
+def power(p, x, m):
+    """Return x taken m times as a factor: one for m 0, also of nought."""
+    answer = number(p, 1)
+    for _ in range(m):
+        answer = times(p, answer, x)
+    return answer
+
+
+def sum_of_products(p, xs, ys):
+    """Return the sum of the products of two rows' numbers, place by place."""
+    total = number(p, 0)
+    for x, y in zip(xs, ys):
+        total = plus(p, total, times(p, x, y))
+    return total
 
 
 def _shortened(u, e):
@@ -69,11 +86,3 @@ def _shortened(u, e):
     if e < 0:
         divisor = -divisor
     return (u // divisor, e // divisor)
-
-
-def _inverse(p, y):
-    # y taken p - 1 times as a factor is one modulo p (Fermat), so once less is one over y.
-    product = 1
-    for _ in range(p - 2):
-        product = product * y % p
-    return product

@@ -27,4 +27,43 @@ def any_values():
         [1, 2, 3], [(1, 2)], {}, {1: 2}, {0: 1, 1: 2}, {"u": 1, "e": 2}, {(1, 2): [3]}, ("term", 1), ("form",),
     ]
     deep = [nested(kind, 10) for kind in (list, tuple, dict)]
-    return numbers + texts + pairs + lists + others + deep
+    return numbers + texts + pairs + lists + others + deep + half_like() + picture_like() + element_like() + bar_like()
+
+
+def half_like():
+    """Texts that are halves, and some that are nearly so."""
+    texts = ["|", "()", "||", ")(", "(", ")", "(|)", "(()", "())", "()|()", "(())", "((|))", "|(|)", ")", "()()", "|)"]
+    far = ["(" * 100 + ")" * 100, "()" * 100, "|" * 200, "(" * 200, "(" + "|" * 198 + ")"]
+    other_signs = ["( )", "[]", "()\n", " ", "\t", "I", "()l", "(x)", "{}", "<>"]
+    return texts + far + other_signs
+
+
+def picture_like():
+    """Values that are pictures, and some that are nearly so."""
+    right = [("", ""), ("|", "|"), ("()", "()"), ("||", "||"), ("()|", "|()"), ("(())", "()()"), ("|" * 30, "|" * 30)]
+    texts = [("()", "||"), ("()", "()()"), ("|", "||"), ("(|)", "(|)"), (")(", ")("), ("", "|"), ("()|", "()||")]
+    kinds = [("()",), ("()", "()", "()"), ("()", 1), (None, "()"), (("()",), "()"), ("()", ["()"]), ({}, {}), "()()"]
+    return right + [list(pair) for pair in right] + texts + kinds + [{"()": "()"}, [("()", "()")]]
+
+
+def element_like():
+    """Values that are elements over some field, and some that are nearly so."""
+    cup, two = ("()", "()"), ("||", "||")
+    right = [((cup, 1),), ((two, 1),), ((cup, 1), (two, 1)), ((cup, (-1, 2)), (two, (1, 1))), ((("", ""), 1),)]
+    orders = [((two, 1), (cup, 1)), ((cup, 1), (cup, 1)), ((cup, 0),), ((cup, (0, 1)),), ((cup, (2, 2)),)]
+    kinds = [
+        (cup, 1), ([cup, 1],), [(cup, 1)], ((cup,),), ((cup, 1, 1),), ((list(cup), 1),), ((cup, True),), ((cup, None),),
+        ((cup, "1"),), ((cup, -1),), ((cup, 13),), {cup: 1}, ((1, cup),), ((("()", "||"), 1),), ((cup, 1), 1),
+    ]
+    mixed = [((cup, 1), (("|", "|"), 1)), ((("()|", "|()"), 1),), ((("()|", "()|"), 1), (("|||", "|||"), 1))]
+    return right + orders + kinds + mixed
+
+
+def bar_like():
+    """Values that are pairs of a number of loose ends and a row, and some that are nearly so."""
+    right = [(0, (1,)), (0, (1, 1)), (0, (0, 0)), (1, (1, 1)), (1, ((1, 1), (-1, 1))), (0, ((0, 1),)), (2, (1, 1, 1))]
+    kinds = [
+        (0, [1]), [0, (1,)], (0, 1), (True, (1, 1)), (False, (1,)), (None, (1,)), ("0", (1,)), (0, ()), (0, (True,)),
+        (0, (1,), 1), (-2, (1,)), (10 ** 59, (1,)), (0, (None,)), (0, ("1",)), ((0,), (1,)), (0, {0: 1}),
+    ]
+    return right + kinds

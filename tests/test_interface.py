@@ -14,6 +14,36 @@ FUNCTIONS = {
     "worths.py": (
         "worth_row(p, d, m); term(p, d, m); length(p, d); judge_length(p, d, value); lengths_of(p); worths_of(p, l)"
     ),
+    "halves.py": (
+        "is_half(value); points(half); loose(half); partner(half, i); arcs_of(half); near(half); mirrored(half); "
+        "halves(n, k); count(n, k); all_halves(n); path(half); half_along(told); half_by(n, arcs); "
+        "half_number(half); half_of(n, k, number); next_half(half)"
+    ),
+    "pictures.py": (
+        "is_picture(value); straight(n); arc(n, i); pictures(n); turned(picture); flipped(picture); "
+        "glue(one, other); product(one, other); of_word(n, word); are_alike(n, one, other); letters_of(picture); "
+        "fewest(picture); fewest_length(picture)"
+    ),
+    "rooms.py": "value(p, d, one, other); table(p, d, n, k); values_of(p, d, n, k, row)",
+    "ranks.py": (
+        "rank_of(p, rows); reduced(p, rows); determinant(p, rows); table_rank(p, d, n, k); "
+        "nought_basis(p, d, n, k); judge_nought(p, d, n, k, value)"
+    ),
+    "digits.py": (
+        "digits(p, l, N); of_digits(p, l, told); support(p, l, N); holds(p, l, k, r); next_over(p, l, k)"
+    ),
+    "pieces.py": (
+        "size(p, d, n, r); sizes(p, d, n); pieces_of(p, d, n, k); keeps_all(p, d, n, k); lost(p, d, n); "
+        "all_kept(p, d, n); shares_of(p, d, n, r)"
+    ),
+    "elements.py": (
+        "is_element(p, n, value); element(p, pairs); share(p, one, picture); added(p, one, other); "
+        "scaled(p, one, x); product_of(p, d, one, other); word_element(p, d, n, word); turned_element(one)"
+    ),
+    "middles.py": (
+        "has_middle(p, d, n); middle(p, d, n); bar(p, d, n); judge_middle(p, d, n, value); "
+        "judge_bar(p, d, n, value)"
+    ),
 }
 CLASSES = {
     "errors.py": (
