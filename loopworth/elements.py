@@ -30,6 +30,11 @@ def element(p, pairs):
     return tuple([(picture, shares[picture]) for picture in sorted(shares) if shares[picture] != number(p, 0)])
 
 
+def of_row(p, some, row):
+    """Return the element with a row's numbers at some pictures, each told once."""
+    return element(p, list(zip(some, row)))
+
+
 def share(p, one, picture):
     """Return the number beside a picture in an element, nought if there is none."""
     for other, x in one:

@@ -85,6 +85,55 @@ def product(one, other):
     return loops, (half_of_row(rows[0], met), half_of_row(rows[1], met))
 
 
+def under(picture, half):
+    """A picture, its points below being those of a half, laid above it."""
+    n = len(half)
+    lines = lines_of(picture, "a", "b") + [(("b", i), ("b", j)) for i, j in arcs(half)]
+    loops, met = 0, {}
+    for group in groups([(row, i) for row in "ab" for i in range(n)], lines):
+        above = sorted([node for node in group if node[0] == "a"])
+        ends = above + [node for node in group if node[0] == "b" and half[node[1]] == "|"]
+        if not ends:
+            loops += 1
+        for node in above:
+            others = [other for other in above if other != node]
+            met[node] = others[0] if others else ("none", 0)
+    return loops, half_of_row([("a", i) for i in range(n)], met)
+
+
+def fold(picture):
+    """Each point below is point 2 n - 1 - i, and the lines are arcs between points so numbered."""
+    n = len(picture[0])
+    place = {("a", i): i for i in range(n)}
+    place.update({("b", i): 2 * n - 1 - i for i in range(n)})
+    signs = [""] * (2 * n)
+    for one, other in lines_of(picture, "a", "b"):
+        first, last = sorted([place[one], place[other]])
+        signs[first], signs[last] = "(", ")"
+    return "".join(signs)
+
+
+def loops_round(picture):
+    n = len(picture[0])
+    nodes = [(row, i) for row in "ab" for i in range(n)]
+    return len(groups(nodes, lines_of(picture, "a", "b") + [(("a", i), ("b", i)) for i in range(n)]))
+
+
+def closed_last(picture):
+    n = len(picture[0])
+    nodes = [(row, i) for row in "ab" for i in range(n)]
+    last = [("a", n - 1), ("b", n - 1)]
+    loops, met = 0, {}
+    for group in groups(nodes, lines_of(picture, "a", "b") + [tuple(last)]):
+        rest = sorted([node for node in group if node not in last])
+        if rest:
+            met[rest[0]], met[rest[1]] = rest[1], rest[0]
+        else:
+            loops += 1
+    rows = [[(row, i) for i in range(n - 1)] for row in "ab"]
+    return loops, (half_of_row(rows[0], met), half_of_row(rows[1], met))
+
+
 def power(p, d, m):
     """d as a factor m times, as a Python number."""
     answer = Fraction(1) if p == 0 else 1

@@ -67,3 +67,25 @@ def bar_like():
         (0, (1,), 1), (-2, (1,)), (10 ** 59, (1,)), (0, (None,)), (0, ("1",)), ((0,), (1,)), (0, {0: 1}),
     ]
     return right + kinds
+
+
+def house_like():
+    """Values that are things, deeds, questions or names, and some that are nearly so."""
+    cup, two = ("()", "()"), ("||", "||")
+    told = [
+        (7, 3, 6, 2), (0, (1, 2), 60, 0), (7, 3, 6, 3), (7, 7, 6, 2), (3, (0, 1, 0)), (1, ()), (2, (0,) * 21), (9, ()), cup, two,
+        ("", ""), ("|" * 9, "|" * 9), (5, 2, ((cup, 2),)), (5, 2, ()), (0, 2, ((cup, (10 ** 20, 1)),)), (5, 5, ()),
+        (0, 4, (("|" * 4, "|" * 4), (1, 10 ** 19))), (0, 4, ((("|" * 4, "|" * 4), (1, 10 ** 19)),)),
+    ]
+    things = [(kind, part) for kind in ("room", "word", "picture", "element") for part in told]
+    deeds = [
+        ("room", "a", 7, 3, 6, 2), ("word", "a", 3, (0, 1)), ("picture", "a", "()|", "|()"), ("after", "a", "word", "word"),
+        ("turn", "a", "pic"), ("mirror", "a", "sum"), ("drawn", "a", "word"), ("led", "a", "word", 5, 2), ("plus", "a", "sum", "sum"),
+        ("times", "a", "sum", "sum", 1), ("scaled", "a", "sum", 3), ("away", "sum"), ("away",), ("away", "a", "b"), ("led", "a"),
+    ]
+    questions = [
+        ("rank", "room"), ("pieces", "room"), ("middle", "room"), ("change", "room", "small"), ("alike", "word", "other"),
+        ("round", "sum", 2), ("rank",), ("rank", 1), ("round", "sum"), ("change", "room"),
+    ]
+    names = ["a", "room", "sum", "frac", "word", "abcdefgh", "abcdefghi", "A", "a b", "sum ", ["sum"], ("sum",), (0,) * 20, (6,), (7,)]
+    return told + things + deeds + questions + names + [list(deed) for deed in deeds]

@@ -2,6 +2,8 @@
 
 import unittest
 
+from loopworth.errors import LoopError
+
 STAGE_1 = """
 >>> from loopworth.fields import is_field, is_number, minus, number, over, plus, times
 >>> [is_field(7), is_field(0), is_field(17), is_field(True), is_number(5, 4), is_number(5, 5), is_number(0, (2, 4)), is_number(0, (0, 1)), is_number(0, 1), is_number(2, True)]
@@ -119,7 +121,100 @@ True
 [None, ('arc', 0), ('nought',), ('form',)]
 """
 
-STAGES = (STAGE_1, STAGE_2, STAGE_3, STAGE_4, STAGE_5, STAGE_6)
+STAGE_7 = """
+>>> from loopworth.acting import acted, brings, closure, is_closed, is_vector, judge_way, matrix_of, meet, under, unit_of, way_to
+>>> [is_vector(7, 4, 2, (1, 2, 3)), is_vector(7, 4, 2, [1, 2, 3]), unit_of(7, 4, 2, "|()|"), unit_of(0, 2, 0, "()")]
+[True, False, (0, 1, 0), ((1, 1),)]
+>>> ARC, MIDDLE = ("()||", "()||"), ("|()|", "|()|")
+>>> [under(ARC, "()||"), under(MIDDLE, "()||"), under(("||()", "||()"), "()||"), under(("(())", "()()"), "()||")]
+[(1, '()||'), (0, '|()|'), (0, '()()'), (1, '(())')]
+>>> [acted(7, 3, 4, 2, ARC, (1, 2, 3)), acted(7, 3, 4, 2, MIDDLE, (1, 2, 3)), meet(7, 3, 4, 2, (1, 2, 3), (1, 0, 0))]
+[(5, 0, 0), (0, 3, 0), 5]
+>>> [matrix_of(7, 3, 4, 2, MIDDLE), closure(2, 1, 4, 0, [(1, 1)]), closure(2, 1, 4, 0, [(0, 1)]), closure(2, 1, 4, 0, [])]
+[((0, 1, 0), (0, 3, 0), (0, 1, 0)), [(1, 1)], [(1, 0), (0, 1)], []]
+>>> [is_closed(2, 1, 4, 0, [(1, 1)]), is_closed(2, 1, 4, 0, [(0, 1)]), brings(2, 1, 4, 0, (1, 1)), brings(2, 1, 4, 0, (0, 1))]
+[True, False, (), ('(())', 1)]
+>>> [way_to(2, 1, 4, 0, (1, 1), "()()"), judge_way(2, 1, 4, 0, (0, 1), "()()", way_to(2, 1, 4, 0, (0, 1), "()()"))]
+[None, None]
+>>> [judge_way(2, 1, 4, 0, (0, 1), "()()", None), judge_way(2, 1, 4, 0, (0, 1), "()()", (("(())", "(())"), 1)), judge_way(2, 1, 4, 0, (0, 1), "()()", 5)]
+[('there', '(())', 1), ('comes', (1, 0)), ('form',)]
+
+>>> from loopworth.left import are_left_alike, left_halves, left_matrix, left_table, rest_of
+>>> [left_halves(2, 0, 4, 2), left_table(2, 0, 4, 2), rest_of(2, 0, 4, 2, (1, 1, 0)), are_left_alike(2, 0, 4, 2, (1, 1, 0), (0, 1, 1))]
+[['|()|', '||()'], ((0, 1), (1, 0)), (0, 1, 1), True]
+>>> [left_matrix(2, 0, 4, 2, ("()||", "()||")), left_matrix(2, 0, 4, 2, ("|()|", "|()|")), left_halves(3, 0, 2, 0)]
+[((0, 1), (0, 0)), ((0, 0), (1, 0)), []]
+"""
+
+STAGE_8 = """
+>>> from loopworth.less import cut, falls_apart, grown, join, put_together, rooms_of, split, times, times_down
+>>> [cut("()||"), cut("|()|"), cut("||()"), cut("(())"), cut("|"), join("||", True), join("|()", True), join("()|", False)]
+[('()|', False), ('|()', False), ('|||', True), ('|()', True), ('', False), '|()', '(())', '()||']
+>>> [grown(("()|", "|()")), split(7, 4, 2, (1, 2, 3)), split(7, 2, 0, (5,)), put_together(7, 4, 2, (1, 2), (3,))]
+[('()||', '|()|'), ((1, 2), (3,)), ((), (5,)), (1, 2, 3)]
+>>> [rooms_of(2, 1, 4, 0), rooms_of(2, 1, 6, 0), rooms_of(2, 0, 4, 2), rooms_of(2, 0, 4, 0), rooms_of(0, (2, 1), 4, 2)]
+[[(0, 1), (4, -1)], [(0, 1), (4, -1), (6, 1)], [(2, 1), (4, -1)], [], [(2, 1)]]
+>>> [times(2, 1, 6, 2), times(0, (2, 1), 6, 2), times(2, 0, 4, 2), times(2, 1, 5, 5), times_down(2, 1, 6, 2, 2), times_down(2, 1, 6, 2, 6)]
+[[(1, 1), (3, 2)], [(1, 1), (3, 1)], [(1, 1)], [(4, 1)], [(0, 1), (2, 2), (4, 2)], [(0, 9)]]
+>>> [falls_apart(2, 1, 6, 2), falls_apart(2, 0, 4, 2)]
+[True, False]
+"""
+
+STAGE_9 = """
+>>> from loopworth.folding import closed_last, fold, loops_round, pictures_by_folds, unfold
+>>> [fold(("||", "||")), fold(("()", "()")), fold(("|()", "()|")), unfold("(())()"), unfold("")]
+['(())', '()()', '(())()', ('|()', '()|'), ('', '')]
+>>> pictures_by_folds(3)
+[('|||', '|||'), ('|()', '|()'), ('|()', '()|'), ('()|', '|()'), ('()|', '()|')]
+>>> [loops_round(("||", "||")), loops_round(("()", "()")), loops_round(("|()", "|()")), loops_round(("|()", "()|")), loops_round(("", ""))]
+[2, 1, 2, 1, 0]
+>>> [closed_last(("||", "||")), closed_last(("()", "()")), closed_last(("|()", "()|")), closed_last(("|()", "|()"))]
+[(1, ('|', '|')), (0, ('|', '|')), (0, ('()', '()')), (0, ('||', '||'))]
+
+>>> from loopworth.traces import answers, closed_element, judge_answers, judge_silent, keeps_round, round_rank, round_table, round_value, trace, trace_row
+>>> ARC, TWO = ("()", "()"), ("||", "||")
+>>> SOME = ((ARC, 2), (TWO, 1))
+>>> [trace(5, 2, SOME), trace(5, 2, ()), closed_element(5, 2, SOME), trace_row(5, 2, 2, SOME, 2)]
+[3, 0, ((('|', '|'), 4),), [4, 3, 3]]
+>>> [round_value(5, 2, ARC, ARC), round_value(5, 2, ARC, TWO), round_table(0, (3, 1), 2), round_table(2, 1, 2)]
+[4, 2, (((9, 1), (3, 1)), ((3, 1), (9, 1))), ((1, 1), (1, 1))]
+>>> [round_rank(2, 1, 2), keeps_round(2, 1, 1), keeps_round(2, 1, 2), keeps_round(0, (3, 1), 10 ** 30)]
+[1, True, False, True]
+>>> [answers(5, 2, 1), answers(2, 1, 2), judge_silent(2, 1, 2, ((ARC, 1), (TWO, 1))), judge_silent(5, 2, 2, SOME)]
+[('keeps', [((('|', '|'), 3),)]), ('loses', ((('()', '()'), 1), (('||', '||'), 1))), None, ('heard', ('||', '||'), 3)]
+>>> [judge_answers(5, 2, 1, ("keeps", [((("|", "|"), 1),)])), judge_answers(2, 1, 2, ("loses", ((TWO, 1),))), judge_answers(2, 1, 2, None)]
+[('value', 0, 0), ('silent', ('heard', ('||', '||'), 1)), ('form',)]
+"""
+
+STAGE_10 = """
+>>> from loopworth.texts import deed_text, element_text, picture_text, read_deed, thing_text
+>>> [picture_text(("()|", "|()")), element_text(((("()", "()"), 2), (("||", "||"), 1))), element_text(()), thing_text(("room", (0, (1, 2), 4, 2)))]
+['()|/|()', '2*()/() + 1*||/||', '0', 'room 0 1/2 4 2']
+>>> [thing_text(("word", (3, (0, 1)))), thing_text(("word", (1, ()))), thing_text(("element", (5, 2, ()))), deed_text(("led", "a", "b", 5, 3)), deed_text(("scaled", "a", "b", (-3, 1)))]
+['word 3 0.1', 'word 1 -', 'element 5 2 0', 'led a b 5 3', 'scaled a b -3/1']
+>>> [read_deed("room a 7 3 6 2"), read_deed("word w 4 0.1.2"), read_deed("picture p ()| |()")]
+[('room', 'a', 7, 3, 6, 2), ('word', 'w', 4, (0, 1, 2)), ('picture', 'p', '()|', '|()')]
+>>> read_deed("room a 7 9 6 2")
+raises BadText(0)
+
+>>> from loopworth.house import House, after, ask, is_thing
+>>> house = House()
+>>> [house.do(("room", "a", 2, 1, 4, 0)), house.do(("room", "b", 5, 2, 4, 0)), house.do(("word", "w", 2, (0, 0))), house.do(("led", "e", "w", 5, 2)), house.shelf()["e"]]
+[1, 2, 3, 4, ('element', (5, 2, ((('()', '()'), 2),)))]
+>>> [ask(house.shelf(), ("rank", "a")), ask(house.shelf(), ("pieces", "a")), ask(house.shelf(), ("middle", "a")), ask(house.shelf(), ("change", "a", "b")), house.keep("x", ("rank", "a"))]
+[1, (0, 4), False, (1, 2, (4,), ()), 1]
+>>> [house.do(("room", "a", 5, 2, 4, 0)), house.today("x"), house.undo(), house.today("x"), is_thing(("room", (5, 2, 3, 2)))]
+[5, ('else', 2), 4, ('same',), False]
+>>> after({}, ("away", "a"))
+raises UnknownName('a')
+
+>>> from loopworth.console import Console
+>>> desk = Console()
+>>> [desk.say("room a 7 3 6 2"), desk.say("word w 3 0.1.0"), desk.say("drawn p w"), desk.say("show p"), desk.say("show"), desk.say("undo"), desk.say("show p"), desk.say("rom a")]
+['1', '2', '3', 'picture ()|/()|', 'a p w', '2', 'refused', 'what']
+"""
+
+STAGES = (STAGE_1, STAGE_2, STAGE_3, STAGE_4, STAGE_5, STAGE_6, STAGE_7, STAGE_8, STAGE_9, STAGE_10)
 
 
 def steps(text):
@@ -133,6 +228,14 @@ def steps(text):
     return found
 
 
+def printed_by(entered, names):
+    """What is printed for an expression, also where it raises an error of the package."""
+    try:
+        return repr(eval(entered, names))
+    except LoopError as error:
+        return "raises %s(%s)" % (type(error).__name__, ", ".join(repr(told) for told in vars(error).values()))
+
+
 class Examples(unittest.TestCase):
     def test_they_answer_as_printed(self):
         for stage in STAGES:
@@ -142,7 +245,7 @@ class Examples(unittest.TestCase):
                     exec(entered, names)
                 else:
                     with self.subTest(entered=entered):
-                        self.assertEqual(repr(eval(entered, names)), printed)
+                        self.assertEqual(printed_by(entered, names), printed)
 
     def test_there_are_some(self):
         for stage in STAGES:

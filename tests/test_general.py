@@ -5,15 +5,18 @@ import inspect
 import unittest
 
 from loopworth import (
-    digits, elements, errors, fields, halves, middles, pictures, pieces, ranks, rooms, worths,
+    acting, digits, elements, errors, fields, folding, halves, house, left, less, middles, pictures, pieces, ranks,
+    rooms, texts, traces, worths,
 )
-from tests.odd_values import any_values
+from loopworth.console import Console
+from tests.odd_values import any_values, house_like
 from tests.test_interface import FUNCTIONS, listed
 
 FIELDS = (0, 2, 3, 5, 7, 11, 13)
 FRACTIONS = [((1, 2), (1, 3)), ((2, 1), (0, 1))]
 CUP, TWO = ("()", "()"), ("||", "||")
 ONE, OTHER = ((CUP, 2), (TWO, 3)), ((CUP, (-1, 2)), (TWO, (1, 1)))
+WORD = ("word", (3, (0, 1)))
 
 CALLS = {
     fields: (
@@ -67,6 +70,47 @@ CALLS = {
         ("bar", 0, (1, 1), 3), ("judge_middle", 0, (2, 1), 2, OTHER), ("judge_middle", 5, 2, 2, ONE),
         ("judge_bar", 2, 1, 4, (0, (1, 0))),
     ),
+    acting: (
+        ("is_vector", 7, 4, 2, (1, 2, 3)), ("unit_of", 7, 4, 2, "|()|"), ("under", ("(())", "()()"), "()||"),
+        ("acted", 7, 3, 4, 2, ("()||", "|()|"), (1, 2, 3)), ("acted", 0, (1, 2), 2, 0, CUP, ((1, 3),)),
+        ("matrix_of", 7, 3, 4, 2, ("()||", "|()|")), ("meet", 7, 3, 4, 2, (1, 2, 3), (1, 0, 0)),
+        ("closure", 2, 1, 4, 0, [(1, 1)]), ("closure", 7, 3, 4, 2, [(1, 2, 3), (0, 0, 0)]),
+        ("closure", 5, 2, 4, 0, []), ("closure", 0, (1, 1), 4, 0, FRACTIONS),
+        ("is_closed", 2, 1, 4, 0, [(1, 1)]), ("is_closed", 2, 1, 4, 0, [(0, 1)]), ("brings", 2, 1, 4, 0, (0, 1)),
+        ("way_to", 2, 1, 4, 0, (0, 1), "()()"), ("way_to", 2, 1, 4, 0, (1, 1), "()()"),
+        ("judge_way", 2, 1, 4, 0, (0, 1), "()()", (("(())", "(())"), 1)),
+    ),
+    left: (
+        ("left_halves", 2, 0, 4, 2), ("left_halves", 3, 0, 2, 0), ("left_table", 2, 0, 4, 2),
+        ("rest_of", 2, 0, 4, 2, (1, 1, 0)), ("rest_of", 0, (1, 1), 4, 0, ((1, 2), (1, 3))),
+        ("are_left_alike", 2, 0, 4, 2, (1, 1, 0), (0, 1, 1)), ("left_matrix", 2, 0, 4, 2, ("()||", "|()|")),
+    ),
+    less: (
+        ("cut", "(())"), ("join", "|()", True), ("grown", CUP), ("split", 7, 4, 2, (1, 2, 3)),
+        ("put_together", 7, 4, 2, (1, 2), (3,)), ("rooms_of", 2, 1, 6, 0), ("rooms_of", 2, 0, 4, 0),
+        ("times", 2, 1, 6, 2), ("times_down", 2, 1, 6, 2, 2), ("times_down", 2, 0, 4, 0, 1),
+        ("falls_apart", 2, 1, 6, 2),
+    ),
+    folding: (
+        ("fold", ("|()", "()|")), ("unfold", "(())()"), ("pictures_by_folds", 3), ("loops_round", CUP),
+        ("closed_last", ("|()", "()|")),
+    ),
+    traces: (
+        ("trace", 5, 2, ONE), ("trace", 0, (1, 2), OTHER), ("closed_element", 5, 2, ONE),
+        ("closed_element", 0, (3, 1), OTHER), ("round_value", 5, 2, CUP, TWO), ("round_table", 5, 2, 2),
+        ("round_rank", 2, 1, 30), ("keeps_round", 2, 1, 10 ** 30), ("judge_silent", 5, 2, 2, ONE),
+        ("answers", 5, 2, 2), ("answers", 2, 1, 2), ("judge_answers", 2, 1, 2, ("loses", ((TWO, 1),))),
+        ("judge_answers", 5, 2, 1, ("keeps", [((("|", "|"), 1),)])), ("trace_row", 5, 2, 2, ONE, 3),
+    ),
+    texts: (
+        ("picture_text", CUP), ("element_text", ONE), ("element_text", OTHER), ("thing_text", WORD),
+        ("deed_text", ("led", "a", "b", 0, (1, 2))), ("read_deed", "word a 3 0.1"),
+    ),
+    house: (
+        ("is_thing", WORD), ("after", {"b": WORD}, ("led", "a", "b", 5, 3)), ("after", {"b": WORD}, ("away", "b")),
+        ("after", {"b": WORD}, ("turn", "b", "b")), ("ask", {"b": ("room", (2, 1, 4, 0))}, ("change", "b", "b")),
+        ("ask", {"b": WORD}, ("alike", "b", "b")),
+    ),
 }
 
 
@@ -81,8 +125,10 @@ def lookers(value):
     yield fields.is_field(value)
     yield halves.is_half(value)
     yield pictures.is_picture(value)
+    yield house.is_thing(value)
     for p in FIELDS:
         yield fields.is_number(p, value)
+        yield acting.is_vector(p, 2, 0, value)
         for n in (0, 2, 3):
             yield elements.is_element(p, n, value)
 
@@ -96,6 +142,10 @@ def judged(value):
         for n in (1, 2, 3):
             yield middles.judge_middle(p, fields.number(p, 1), n, value)
             yield middles.judge_bar(p, fields.number(p, 1), n, value)
+            yield traces.judge_silent(p, fields.number(p, 1), n, value)
+            yield traces.judge_answers(p, fields.number(p, 1), n, value)
+        vector = acting.unit_of(p, 4, 0, "(())")
+        yield acting.judge_way(p, fields.number(p, 2), 4, 0, vector, "()()", value)
 
 
 class EveryFunction(unittest.TestCase):
@@ -125,11 +175,14 @@ class EveryFunction(unittest.TestCase):
     def test_lists_that_are_returned_are_not_kept(self):
         for function, arguments in calls():
             answer = function(*arguments)
-            if isinstance(answer, list):
-                first = list(answer)
+            if isinstance(answer, tuple) and answer[:1] == ("keeps",):
+                answer = answer[1]
+            if isinstance(answer, (list, dict)):
+                first = copy.deepcopy(answer)
                 self.assertFalse([told for told in arguments if told is answer])
                 answer.clear()
-                self.assertEqual(function(*arguments), first)
+                again = function(*arguments)
+                self.assertEqual(again[1] if isinstance(again, tuple) else again, first)
 
     def test_where_a_list_is_asked_a_tuple_may_be_passed(self):
         for function, arguments in calls():
@@ -139,9 +192,21 @@ class EveryFunction(unittest.TestCase):
                 self.assertEqual(function(*arguments), function(*others), function.__name__)
 
     def test_any_value_that_is_handed_in_stays_as_it_was(self):
-        for before, value in zip(any_values(), any_values()):
+        desk = Console()
+        shelf = {"b": WORD}
+        for before, value in zip(any_values() + house_like(), any_values() + house_like()):
             list(lookers(value))
             list(judged(value))
+            desk.say(value)
+            for refuse, arguments in (
+                (house.after, (shelf, value)), (house.ask, (shelf, value)), (texts.read_deed, (value,)),
+                (house.after, (shelf, ("led", "a", "b", 0, value))), (house.after, (shelf, ("word", value, 3, value))),
+                (desk.house().do, (value,)), (desk.house().keep, (value, value)), (desk.house().today, (value,)),
+            ):
+                try:
+                    refuse(*arguments)
+                except errors.LoopError:
+                    pass
             for raised in (errors.NoMiddle, errors.BadHalf, errors.BadText, errors.BadName, errors.UnknownName):
                 raised(value)
             self.assertEqual(repr(value), repr(before))
@@ -153,7 +218,10 @@ class EveryFunction(unittest.TestCase):
 
     def test_further_answers_that_are_true_or_false(self):
         for function, arguments in calls():
-            if function.__name__ in ("are_alike", "holds", "keeps_all", "all_kept", "has_middle"):
+            if function.__name__ in (
+                "are_alike", "holds", "keeps_all", "all_kept", "has_middle", "is_closed", "are_left_alike",
+                "falls_apart", "keeps_round",
+            ):
                 self.assertIs(type(function(*arguments)), bool)
 
     def test_judges_return_none_or_a_fault(self):
@@ -171,3 +239,10 @@ class EveryFunction(unittest.TestCase):
                 self.assertEqual(middles.judge_bar(p, fields.number(p, 0), 2, (0, (value,))), ("form",))
                 self.assertEqual(middles.judge_bar(p, fields.number(p, 0), 2, (value, (fields.number(p, 1),))), ("form",))
                 self.assertIs(elements.is_element(p, 2, ((CUP, value),)), False)
+                self.assertIs(acting.is_vector(p, 2, 0, (value,)), False)
+                self.assertEqual(traces.judge_silent(p, fields.number(p, 1), 2, ((CUP, value),)), ("form",))
+                way = (("()", "()"), value)
+                vector = (fields.number(p, 1),)
+                self.assertEqual(acting.judge_way(p, fields.number(p, 1), 2, 0, vector, "()", way), ("form",))
+                self.assertIs(house.is_thing(("element", (p, 2, ((CUP, value),)))), False)
+                self.assertIs(house.is_thing(("room", (p, value, 2, 0))), False)
