@@ -36,13 +36,12 @@ def loops_round(picture):
 
 def closed_last(picture):
     """Join the last points above and below: return how many loops are closed, and what is left."""
-    # Folded, the two lie side by side in the middle.
+    # Folded, the two lie side by side in the middle, and are left out there; if they are joined with
+    # one another already, no others come to one another.
     half = fold(picture)
     above = len(picture[0]) - 1
     left, right = partners(half)[above], partners(half)[above + 1]
     signs = list(half)
-    loops = 1 if left == above + 1 else 0
-    if loops == 0:
-        signs[min(left, right)] = "("
-        signs[max(left, right)] = ")"
-    return (loops, unfold("".join(signs[:above] + signs[above + 2:])))
+    signs[min(left, right)] = "("
+    signs[max(left, right)] = ")"
+    return (1 if left == above + 1 else 0, unfold("".join(signs[:above] + signs[above + 2:])))

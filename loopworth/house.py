@@ -69,7 +69,7 @@ def _is_room(told):
     p, d, n, k = told
     if not is_field(p) or not is_number(p, d):
         return False
-    return is_whole(n) and 0 <= n <= 60 and is_whole(k) and 0 <= k <= n and (n - k) % 2 == 0
+    return is_whole(n) and is_whole(k) and 0 <= k <= n <= 60 and (n - k) % 2 == 0
 
 
 def _is_word(told):

@@ -338,6 +338,8 @@ class JudgeAnswers(unittest.TestCase):
             for wrong in ([word, told], (word, told, 1), (word,), (word, told[:-1]), (word, told + told[:1]),
                           (word, told[:-1] + [()]), (word, {0: told}), ("loses", told, told), told):
                 self.assertEqual(judge_answers(p, d, n, wrong), ("form",))
+            for other_word in ("keep", "keepss", "", "Keeps", None, True, ("keeps",)):
+                self.assertEqual(judge_answers(p, d, n, (other_word, told)), ("form",))
             self.assertEqual(judge_answers(p, d, n, ("loses", told)), ("silent", ("form",)))
             self.assertEqual(judge_answers(p, d, n, ("loses", ())), ("silent", ("form",)))
 
