@@ -336,6 +336,15 @@ class Closure(unittest.TestCase):
             self.assertEqual(closure(p, d, n, k, (basis * 40)[:40]), basis)
 
 
+class RoomsWithoutHalves(unittest.TestCase):
+    def test_nothing_comes(self):
+        for p, d in SOME:
+            self.assertEqual(acted(p, d, 3, 0, straight(3), ()), ())
+            self.assertEqual(matrix_of(p, d, 3, 0, straight(3)), ())
+            self.assertEqual(meet(p, d, 3, 0, (), ()), number(p, 0))
+            self.assertEqual(brings(p, d, 3, 0, ()), ())
+
+
 class IsClosed(unittest.TestCase):
     def test_closures_are(self):
         chance = random.Random(83)

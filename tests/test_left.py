@@ -202,6 +202,14 @@ class LeftMatrix(unittest.TestCase):
         self.assertEqual(left_matrix(2, 1, 8, 2, picture), self.by_hand(2, 1, 8, 2, picture))
 
 
+class RoomsWithoutHalves(unittest.TestCase):
+    def test_nothing_is_left(self):
+        for p, d in SOME:
+            self.assertEqual([left_halves(p, d, 3, 0), left_table(p, d, 3, 0), rest_of(p, d, 3, 0, ())], [[], (), ()])
+            self.assertEqual(left_matrix(p, d, 3, 0, straight(3)), ())
+            self.assertIs(are_left_alike(p, d, 3, 0, (), ()), True)
+
+
 class OnePiece(unittest.TestCase):
     def test_nothing_but_noughts_and_all_is_closed_among_what_is_left(self):
         chance = random.Random(78)
